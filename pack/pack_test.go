@@ -571,6 +571,28 @@ func TestP5_1_End(t *testing.T) {
 	}
 }
 
+// Failed tells a reader's error, which End doesn't while bytes are left; asking changes nothing.
+func TestP5_1_Failed(t *testing.T) {
+	for _, behind := range behinds() {
+		r := pack.Open(of(1, 5, behind))
+		if r.Failed() || r.Number(5) != 5 || r.Failed() || (r.End() == api.OK) != (len(behind) == 0) || r.Failed() {
+			t.Errorf("with %.20v left: an error", behind)
+		}
+		r = pack.Open(of(1, 5, behind))
+		if r.Number(4) != 0 || !r.Failed() || r.End() != api.ErrForm {
+			t.Errorf("with %.20v left: none", behind)
+		}
+		fails(t, r)
+		if !r.Failed() {
+			t.Errorf("with %.20v left: the error is gone", behind)
+		}
+	}
+	r := pack.Open(nil)
+	if r.Failed() || r.Flag() || !r.Failed() {
+		t.Error("of no bytes")
+	}
+}
+
 // Behind the first thing that doesn't stand there nothing is taken any more, however it comes to be.
 func TestP5_1_NothingBehindAnError(t *testing.T) {
 	first := map[string]func(r *pack.Reader){

@@ -109,6 +109,11 @@ func (r *Reader) End() api.Errno {
 	return answer(r.err)
 }
 
+// Failed: has it an error? (Beside the chapter's calls: what takes greater things asks it, as End can't tell while bytes are left.)
+func (r *Reader) Failed() bool {
+	return r.err != nil
+}
+
 // answer is what an error is to those who call.
 func answer(err error) api.Errno {
 	var w wrong
