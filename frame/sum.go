@@ -16,8 +16,3 @@ func Sum(b []byte) uint32 {
 	}
 	return ^c
 }
-
-// sumAt is the sum that stands in a frame's last bytes.
-func sumAt(b []byte) uint32 {
-	return uint32(b[0])<<24 | uint32(b[1])<<16 | uint32(b[2])<<8 | uint32(b[3])
-}
