@@ -7,11 +7,21 @@ import (
 	"spinney/api"
 )
 
-// Write: the same one, its texts in memory of its own.
+// Value: the same one, its text in memory of its own.
+func Value(v api.Value) api.Value {
+	v.Text = strings.Clone(v.Text)
+	return v
+}
+
+// Cell: likewise, its texts.
+func Cell(c api.Cell) api.Cell {
+	return api.Cell{Key: strings.Clone(c.Key), Value: Value(c.Value)}
+}
+
+// Write: likewise.
 func Write(w api.Write) api.Write {
 	w.Op.Key = strings.Clone(w.Op.Key)
-	w.Op.A.Text = strings.Clone(w.Op.A.Text)
-	w.Op.B.Text = strings.Clone(w.Op.B.Text)
+	w.Op.A, w.Op.B = Value(w.Op.A), Value(w.Op.B)
 	return w
 }
 
