@@ -27,9 +27,24 @@ func Write(w api.Write) api.Write {
 
 // Texts: the same ones, in a list and memory of their own.
 func Texts(l []string) []string {
-	own := make([]string, len(l))
-	for i, s := range l {
-		own[i] = strings.Clone(s)
+	return each(l, strings.Clone)
+}
+
+// Cells: likewise.
+func Cells(l []api.Cell) []api.Cell {
+	return each(l, Cell)
+}
+
+// Writes: likewise.
+func Writes(l []api.Write) []api.Write {
+	return each(l, Write)
+}
+
+// each is a list of what one makes of all of another one's.
+func each[T any](l []T, one func(T) T) []T {
+	own := make([]T, len(l))
+	for i, x := range l {
+		own[i] = one(x)
 	}
 	return own
 }

@@ -56,3 +56,20 @@ func TestTexts(t *testing.T) {
 		t.Error("Texts of none")
 	}
 }
+
+func TestLists(t *testing.T) {
+	w := append(make([]api.Write, 0, 9), api.Write{Id: api.Id{Dev: 3, Seq: 17}, Op: api.Op{Kind: api.Put, Key: strings.Clone("k.1"), A: api.Value{Kind: api.Text, Text: strings.Clone("some")}}}, api.Write{})
+	c := append(make([]api.Cell, 0, 9), api.Cell{Key: strings.Clone("k.1"), Value: api.Value{Kind: api.Text, Text: strings.Clone("some")}}, api.Cell{})
+	writes, cells := fresh.Writes(w), fresh.Cells(c)
+	if !slices.Equal(writes, w) || !slices.Equal(cells, c) || !apart(writes[0].Op.Key, w[0].Op.Key) || !apart(writes[0].Op.A.Text, w[0].Op.A.Text) || !apart(cells[0].Key, c[0].Key) || !apart(cells[0].Value.Text, c[0].Value.Text) {
+		t.Errorf("%v, %v, or their memory", writes, cells)
+	}
+	clear(writes[:cap(writes)])
+	clear(cells[:cap(cells)])
+	if w[0].Id.Seq != 17 || c[0].Key != "k.1" || !slices.Equal(w[:9][2:], make([]api.Write, 7)) {
+		t.Error("what was handed in has changed")
+	}
+	if len(fresh.Writes(nil)) != 0 || len(fresh.Cells(nil)) != 0 {
+		t.Error("lists of none")
+	}
+}
