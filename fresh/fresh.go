@@ -27,21 +27,21 @@ func Write(w api.Write) api.Write {
 
 // Texts: the same ones, in a list and memory of their own.
 func Texts(l []string) []string {
-	return each(l, strings.Clone)
+	return Each(l, strings.Clone)
 }
 
 // Cells: likewise.
 func Cells(l []api.Cell) []api.Cell {
-	return each(l, Cell)
+	return Each(l, Cell)
 }
 
 // Writes: likewise.
 func Writes(l []api.Write) []api.Write {
-	return each(l, Write)
+	return Each(l, Write)
 }
 
-// each is a list of what one makes of all of another one's.
-func each[T any](l []T, one func(T) T) []T {
+// Each: what one makes of each of a list, in a list of their own.
+func Each[T any](l []T, one func(T) T) []T {
 	own := make([]T, len(l))
 	for i, x := range l {
 		own[i] = one(x)

@@ -73,3 +73,15 @@ func TestLists(t *testing.T) {
 		t.Error("lists of none")
 	}
 }
+
+func TestEach(t *testing.T) {
+	l := append(make([]int, 0, 9), 1, 2, 3)
+	own := fresh.Each(l, func(n int) int { return n * n })
+	if !slices.Equal(own, []int{1, 4, 9}) || len(fresh.Each(nil, func(n int) int { return n })) != 0 {
+		t.Errorf("Each: %v", own)
+	}
+	clear(own[:cap(own)])
+	if !slices.Equal(l, []int{1, 2, 3}) {
+		t.Errorf("the list has changed: %v", l)
+	}
+}
