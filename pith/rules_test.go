@@ -174,3 +174,17 @@ func TestP10_R8_TheSameAgain(t *testing.T) {
 		}
 	}
 }
+
+// What Own answers is the same one, and shares no memory with it.
+func TestP17_4_Own(t *testing.T) {
+	for _, want := range []func() pith.State{some, rootState, func() pith.State { return pith.State{} }} {
+		s := want()
+		x := pith.Own(s)
+		wipe(s)
+		y := pith.Own(x)
+		wipe(y)
+		if !same(x, want()) {
+			t.Errorf("Own: %v, want %v", x, want())
+		}
+	}
+}
