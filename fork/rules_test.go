@@ -45,6 +45,7 @@ func TestP9_AnyArguments(t *testing.T) {
 func TestP9_ManyTaken(t *testing.T) {
 	f := made(t, 2)
 	f.Hear(hello(3, 1, 1, 0))
+	f.Took(3, greatest)
 	last := 0
 	for range 5 {
 		f.Took(3, greatest)
@@ -53,7 +54,9 @@ func TestP9_ManyTaken(t *testing.T) {
 			t.Errorf("taken: %d", s.Taken)
 		}
 		last = s.Taken
-		wants(t, f, offer(3, 1, 1, 0, 0, 1<<40, 0, "3/1"), "")
+		for _, first := range []int{1, 1 << 40, 0, -1, least, least + 1, greatest} {
+			wants(t, f, offer(3, 1, 1, 0, 0, first, 0, "3/1"), "")
+		}
 	}
 }
 
