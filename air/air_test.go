@@ -89,6 +89,9 @@ func TestP22_1_Send(t *testing.T) {
 func TestP22_1_Full(t *testing.T) {
 	a := air.New()
 	var all []string
+	if air.MaxAir != 400 {
+		t.Errorf("an air of %d", air.MaxAir)
+	}
 	for i := range air.MaxAir {
 		s := "p" + strconv.Itoa(i)
 		if e := a.Send(air.Parcel{To: 1, Bytes: []byte(s)}); e != api.OK {

@@ -93,8 +93,7 @@ func TestP22_3_Memory(t *testing.T) {
 	for range 2 {
 		l, m := a.Parcels(), a.Parcels()
 		for i := range l {
-			l[i].Bytes = append(l[i].Bytes[:cap(l[i].Bytes)], 'x')
-			clear(l[i].Bytes)
+			clear(l[i].Bytes[:cap(l[i].Bytes)])
 		}
 		clear(a.Parcels()[0].Bytes)
 		clear(l[:cap(l)])

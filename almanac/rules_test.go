@@ -87,8 +87,7 @@ func TestP25_3_Memory(t *testing.T) {
 	s, _, _ := almanac.Print(l)
 	x, _, _ := almanac.Parse(s)
 	y, _, _ := almanac.Parse(s)
-	x = append(x[:cap(x)], arbor.Act{})
-	clear(x)
+	clear(x[:cap(x)])
 	a := made(t, "hub 0 *;device 1 *")
 	a.Do(arbor.Act{Kind: arbor.Write, A: 2, Op: op("put a 1")})
 	for range 2 {

@@ -109,8 +109,11 @@ func TestP23_1_OpenWithoutSteps(t *testing.T) {
 		s.Arm(budget)
 		n, e := bough.Open(ours(), 2, 5, s)
 		if e == api.OK {
-			if budget < 5 {
+			if x, e := vault.Open(s.Crash(nil)); budget < 5 || e != api.OK || x.State().Life != 1 {
 				t.Errorf("a budget of %d is enough", budget)
+			}
+			if m, e := bough.Open(ours(), 2, 1001, s); e != api.ErrRange || m != nil || s.Dead() {
+				t.Errorf("a patience of 1001: %d", e)
 			}
 			return
 		}
@@ -639,6 +642,10 @@ func TestP23_1_Report(t *testing.T) {
 func down(t *testing.T, who int) *bough.Node {
 	n, s := fresh(t, who)
 	hears(t, n, hello(4, who, 1, 0), n4(who)...)
+	if who == 2 { // an event that nobody has asked for yet
+		n.Watch("b")
+		does(t, n, "put b 9", "2/1")
+	}
 	s.Arm(0)
 	if who == 2 {
 		if id, e := n.Write(op("put b 1")); e != api.ErrDead || id != (api.Id{}) {

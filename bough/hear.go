@@ -20,17 +20,13 @@ func (n *Node) Hear(l letter.Letter) []letter.Letter {
 	if errors.Is(n.up(), errDown) || !letter.Good(l) {
 		return nil
 	}
-	var told []letter.Letter
 	switch l.Kind {
 	case letter.Hello, letter.Offer:
-		told = n.fromChild(l)
+		return n.fromChild(l)
 	case letter.Update, letter.Reset:
 		n.fromParent(l)
 	}
-	if n.down {
-		return nil
-	}
-	return told
+	return nil
 }
 
 // fromChild hears a Hello or an Offer.
@@ -42,20 +38,24 @@ func (n *Node) fromChild(l letter.Letter) []letter.Letter {
 		}
 		fallthrough
 	case letter.Offer:
-		word := n.fork.Hear(l)
-		if word == fork.Unknown {
+		switch n.fork.Hear(l) {
+		case fork.Nothing:
+			return nil
+		case fork.Unknown:
 			return []letter.Letter{{Kind: letter.Reset, From: n.number, To: l.From, Life: l.Life, Turn: l.Turn}}
-		}
-		if word == fork.Nothing {
-			return nil
-		}
-		if n.take(l) != api.OK {
-			return nil
 		}
 		fallthrough
 	default:
-		return []letter.Letter{n.update(l.From)}
+		return n.answer(l)
 	}
+}
+
+// answer is what a Hello or an Offer that counts is answered, once it is sure what was taken of it.
+func (n *Node) answer(l letter.Letter) []letter.Letter {
+	if n.take(l) != api.OK {
+		return nil
+	}
+	return []letter.Letter{n.update(l.From)}
 }
 
 // take takes of an Offer what is wanted, as far as it can be, and makes it sure; of a Hello nothing is.
@@ -68,11 +68,8 @@ func (n *Node) take(l letter.Letter) api.Errno {
 		}
 		took++
 	}
-	if n.down {
-		return api.ErrDead
-	}
 	n.fork.Took(l.From, took)
-	return n.settle()
+	return n.settle() // of a vault that was refused ahead of it, that is refused, too
 }
 
 // update is an Update to a child.
@@ -94,7 +91,7 @@ func (n *Node) update(child int) letter.Letter {
 
 // fromParent hears an Update or a Reset.
 func (n *Node) fromParent(l letter.Letter) {
-	if n.number == root || l.From != n.state.Parent {
+	if l.From != n.state.Parent { // the root's is nobody
 		return
 	}
 	var learnt []pith.Entry

@@ -114,6 +114,12 @@ func TestP20_1_Example(t *testing.T) {
 	has(t, f, session(3, 1, 1, 0, 0, 1024, 0, true))
 }
 
+func TestP20_1_Words(t *testing.T) {
+	if fork.Nothing != 0 || fork.Begun != 1 || fork.Offered != 2 || fork.Unknown != 3 {
+		t.Errorf("words: %d, %d, %d, %d", fork.Nothing, fork.Begun, fork.Offered, fork.Unknown)
+	}
+}
+
 func TestP20_1_New(t *testing.T) {
 	for _, c := range []struct {
 		node, patience, from int

@@ -126,8 +126,7 @@ func TestP20_4_Memory(t *testing.T) {
 	l.Reach = append(make(api.Reach, 0, 9), "a", "b")
 	f.Hear(l)
 	x, y := first(f.Session(3)), first(f.Session(3))
-	x.Reach = append(x.Reach[:cap(x.Reach)], "x")
-	clear(x.Reach)
+	clear(x.Reach[:cap(x.Reach)])
 	if !slices.Equal(l.Reach[:9], append(api.Reach{"a", "b"}, make(api.Reach, 7)...)) || !slices.Equal(y.Reach, ab) {
 		t.Error("the reach has changed")
 	}
@@ -139,8 +138,7 @@ func TestP20_4_Memory(t *testing.T) {
 	f.Hear(o)
 	f.Took(3, 1)
 	a, b := f.Wants(o), f.Wants(o)
-	a = append(a[:cap(a)], api.Write{})
-	clear(a)
+	clear(a[:cap(a)])
 	if !slices.Equal(o.Writes[:cap(o.Writes)], was) || !slices.Equal(b, list("3/2 3/3")) {
 		t.Error("the writes have changed")
 	}
@@ -149,8 +147,7 @@ func TestP20_4_Memory(t *testing.T) {
 		t.Error("an answer has changed with what was handed in")
 	}
 	c := f.Children()
-	c = append(c[:cap(c)], 9)
-	clear(c)
+	clear(c[:cap(c)])
 	has(t, f, session(3, 1, 1, 0, 0, 1024, 1, false))
 	g := f.Tick()
 	if !slices.Equal(g, []int{3}) {

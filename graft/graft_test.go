@@ -107,6 +107,12 @@ func TestP19_1_Example(t *testing.T) {
 	tells(t, g, "", one(hello(2, 0)))
 }
 
+func TestP19_1_Words(t *testing.T) {
+	if graft.Nothing != 0 || graft.News != 1 || graft.Again != 2 {
+		t.Errorf("words: %d, %d, %d", graft.Nothing, graft.News, graft.Again)
+	}
+}
+
 func TestP19_1_New(t *testing.T) {
 	for _, c := range []struct {
 		node, parent, life int

@@ -3,7 +3,9 @@ package pith_test
 import (
 	"slices"
 	"strconv"
+	"strings"
 	"testing"
+	"unsafe"
 
 	"spinney/api"
 	"spinney/frame"
@@ -185,6 +187,40 @@ func TestP17_4_Own(t *testing.T) {
 		wipe(y)
 		if !same(x, want()) {
 			t.Errorf("Own: %v, want %v", x, want())
+		}
+	}
+}
+
+// texts are those of a state.
+func texts(s pith.State) []string {
+	all := slices.Clone(s.Reach)
+	for _, c := range s.Stem.Cells {
+		all = append(all, c.Key, c.Value.Text)
+	}
+	for _, w := range slices.Concat(s.Tail, s.Queue) {
+		all = append(all, w.Op.Key, w.Op.A.Text, w.Op.B.Text)
+	}
+	for _, x := range s.Stem.Lines {
+		all = append(all, x.Write.Op.Key, x.Write.Op.A.Text)
+	}
+	return slices.DeleteFunc(all, func(x string) bool { return x == "" })
+}
+
+// P17.4: texts are new memory, too.
+func TestP17_4_Texts(t *testing.T) {
+	s := some()
+	s.Stem.Cells = append(s.Stem.Cells, api.Cell{Key: strings.Clone("b.2"), Value: api.Value{Kind: api.Text, Text: strings.Clone("text")}})
+	s.Stem.Lines[0].Write.Op = api.Op{Kind: api.Put, Key: strings.Clone("a.9"), A: api.Value{Kind: api.Text, Text: strings.Clone("line")}}
+	x, _ := pith.Do(s, pith.Entry{Kind: pith.Born, N: 9})
+	y, _ := pith.Do(s, pith.Entry{Kind: pith.Cut, N: 10})
+	had := map[*byte]string{}
+	for i, l := range [][]string{texts(s), texts(pith.Own(s)), texts(x), texts(y)} {
+		for _, text := range l {
+			at := unsafe.StringData(text)
+			if _, has := had[at]; has && i > 0 {
+				t.Fatalf("%q isn't new memory", text)
+			}
+			had[at] = text
 		}
 	}
 }

@@ -140,8 +140,7 @@ func TestP14_3_AnswersAreNewMemory(t *testing.T) {
 	q := made(t, 8, "1/4 2/2 1/5")
 	for range 2 {
 		x, y, l := q.List(), q.List(), q.Lasts(roll.Lasts{})
-		x = append(x[:cap(x)], api.Write{})
-		clear(x)
+		clear(x[:cap(x)])
 		l[1] = 40
 		if !slices.Equal(y, list("1/4 2/2 1/5")) {
 			t.Error("two answers share memory")

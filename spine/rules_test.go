@@ -117,7 +117,7 @@ func roomy() spine.Stem {
 func TestP15_4_WhatIsHandedIn(t *testing.T) {
 	x, r := roomy(), append(make(api.Reach, 0, 9), "a", "b", "n")
 	c, l := slices.Clone(x.Cells[:cap(x.Cells)]), slices.Clone(x.Lines[:cap(x.Lines)])
-	s := of(t, r, x)
+	s, whole := of(t, r, x), of(t, r, x)
 	more, leap := append(lines(16, "1/7 put a 1", "2/8 put n 5"), lines(30, "9/9 put a 1")...)[:2], append(cells("a", 1), cells("x", 1)...)[:1]
 	s.Grow(16, 18, more)
 	s.Cut(17)
@@ -135,6 +135,7 @@ func TestP15_4_WhatIsHandedIn(t *testing.T) {
 	clear(x.Lines[:cap(x.Lines)])
 	r[0] = "z"
 	is(t, s, abn, was)
+	is(t, whole, abn, some())
 	s.Leap(30, leap, roll.Lasts{})
 	clear(leap)
 	is(t, s, abn, spine.Stem{Base: 30, End: 30, Cells: cells("a", 1)})
@@ -152,9 +153,8 @@ func TestP15_4_AnswersAreNewMemory(t *testing.T) {
 		r, w, c := s.Reach(), s.Writes(), s.State()
 		l, _ := s.From(10, abn)
 		l2, _ := s.From(10, abn)
-		x.Cells, x.Lines = append(x.Cells[:cap(x.Cells)], api.Cell{}), append(x.Lines[:cap(x.Lines)], roll.Line{})
-		clear(x.Cells)
-		clear(x.Lines)
+		clear(x.Cells[:cap(x.Cells)])
+		clear(x.Lines[:cap(x.Lines)])
 		clear(r[:cap(r)])
 		clear(w[:cap(w)])
 		clear(c[:cap(c)])

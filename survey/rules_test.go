@@ -80,8 +80,7 @@ func TestP26_3_Memory(t *testing.T) {
 		clear(a[:cap(a)])
 		c, d := survey.Split(s, "a"), survey.Split(s, "a")
 		for i := range c {
-			c[i] = append(c[i][:cap(c[i])], 9)
-			clear(c[i])
+			clear(c[i][:cap(c[i])])
 		}
 		clear(c[:cap(c)])
 		e, f := survey.Writes(s), survey.Writes(s)

@@ -102,6 +102,12 @@ func TestP26_1_Example(t *testing.T) {
 	}
 }
 
+func TestP26_1_Ways(t *testing.T) {
+	if survey.Nowhere != 0 || survey.Known != 1 || survey.Waits != 2 || survey.Told != 3 {
+		t.Errorf("ways: %d, %d, %d, %d", survey.Nowhere, survey.Known, survey.Waits, survey.Told)
+	}
+}
+
 func TestP26_1_Take(t *testing.T) {
 	x := tree("hub 0 *;device 1 a")
 	a := made(t, x)

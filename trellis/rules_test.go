@@ -90,9 +90,8 @@ func TestP21_3_Memory(t *testing.T) {
 		trellis.May(x, 2, 1)
 		trellis.Text(x)
 		a, b := trellis.Children(x, 1), trellis.Under(x, 1)
-		a, b = append(a[:cap(a)], 7), append(b[:cap(b)], 7)
-		clear(a)
-		clear(b)
+		clear(a[:cap(a)])
+		clear(b[:cap(b)])
 	}
 	for range 2 {
 		c, u := trellis.Children(x, 1), trellis.Under(x, 1)

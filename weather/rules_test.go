@@ -8,7 +8,6 @@ import (
 	"testing"
 
 	"spinney/api"
-	"spinney/arbor"
 	"spinney/trellis"
 	"spinney/weather"
 )
@@ -80,8 +79,7 @@ func TestP29_3_Memory(t *testing.T) {
 		x[i].Kind = 9
 		clear(x[i].Reach)
 	}
-	a = append(a[:cap(a)], arbor.Act{})
-	clear(a)
+	clear(a[:cap(a)])
 	if !slices.Equal(b, want) {
 		t.Error("an answer has changed with the tree, or with another one")
 	}
