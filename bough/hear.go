@@ -17,7 +17,7 @@ import (
 
 // Hear: what a letter lets it tell.
 func (n *Node) Hear(l letter.Letter) []letter.Letter {
-	if errors.Is(n.up(), errDown) || !letter.Good(l) {
+	if errors.Is(n.up(), errDown) {
 		return nil
 	}
 	switch l.Kind {
@@ -91,7 +91,7 @@ func (n *Node) update(child int) letter.Letter {
 
 // fromParent hears an Update or a Reset.
 func (n *Node) fromParent(l letter.Letter) {
-	if l.From != n.state.Parent { // the root's is nobody
+	if n.number == root || l.From != n.state.Parent {
 		return
 	}
 	var learnt []pith.Entry
