@@ -15,7 +15,7 @@ import (
 
 var (
 	errNoKind = errors.New("an entry of no kind")
-	errUnused = errors.New("an entry with what its kind doesn't use")
+	errParts  = errors.New("an entry of other parts than its kind uses")
 )
 
 // Entry: by which a state changes.
@@ -38,7 +38,13 @@ const (
 	Cut   = 6
 )
 
-// form looks whether an entry is of a kind, and has nothing but what that uses.
+// isEntry tells whether there is such an entry.
+func isEntry(e Entry) bool {
+	err := form(e)
+	return !errors.Is(err, errNoKind) && !errors.Is(err, errParts)
+}
+
+// form looks whether an entry is of a kind, with what that uses, and nothing else.
 func form(e Entry) error {
 	switch e.Kind {
 	case Leapt:
@@ -47,6 +53,10 @@ func form(e Entry) error {
 	case Born, Moved, Cut:
 		e.N = 0
 	case Took:
+		// A number may be 0 and a list empty, but no write is zero: who has that has none.
+		if e.Write == (api.Write{}) {
+			return errParts
+		}
 		e.Write = api.Write{}
 	case Grew:
 		e.Start, e.End, e.Lines, e.Tail = 0, 0, nil, nil
@@ -54,7 +64,7 @@ func form(e Entry) error {
 		return errNoKind
 	}
 	if e.N != 0 || e.Start != 0 || e.End != 0 || e.Write != (api.Write{}) || e.Lasts != (roll.Lasts{}) || len(e.Lines)+len(e.Cells)+len(e.Tail) > 0 {
-		return errUnused
+		return errParts
 	}
 	return nil
 }

@@ -81,6 +81,23 @@ func rootState() pith.State {
 	return pith.State{Life: 2, Parent: -1, Room: 40, Reach: api.Reach{""}, Stem: spine.Stem{Base: 1, End: 3, Cells: cells("a", 1), Lasts: roll.Lasts{1: 1}, Lines: lines(1, "1/2 add a 1", "4/1 put z 1")}}
 }
 
+// field is one of an entry's, with a way to have something good there; uses are the fields of each kind.
+type field struct {
+	name string
+	set  func(e *pith.Entry)
+}
+
+func fields() []field {
+	return []field{
+		{"N", func(e *pith.Entry) { e.N = 1 }}, {"Start", func(e *pith.Entry) { e.Start = 1 }}, {"End", func(e *pith.Entry) { e.End = 1 }}, {"Write", func(e *pith.Entry) { e.Write = write("3/7 put a 1") }}, {"Lines", func(e *pith.Entry) { e.Lines = lines(14, "1/6 put a 1") }}, {"Cells", func(e *pith.Entry) { e.Cells = cells("a", 1) }}, {"Lasts", func(e *pith.Entry) { e.Lasts[11] = 1 }}, {"Tail", func(e *pith.Entry) { e.Tail = writes("2/1 put a 1") }},
+	}
+}
+
+func uses(kind int, name string) bool {
+	words := map[int]string{pith.Born: "N", pith.Took: "Write", pith.Grew: "Start End Lines Tail", pith.Leapt: "N Cells Lasts Tail", pith.Moved: "N", pith.Cut: "N"}
+	return slices.Contains(strings.Fields(words[kind]), name)
+}
+
 // tidy is a state with lists that are nil, where they are empty, so that states may be compared whole.
 func tidy(s pith.State) pith.State {
 	if len(s.Reach) == 0 {

@@ -31,9 +31,6 @@ func PutEntry(e Entry) frame.Piece {
 // TakeEntry: that of a piece.
 func TakeEntry(p frame.Piece) (Entry, api.Errno) {
 	e := Entry{Kind: int(p.Kind)}
-	if e.Kind < Born || e.Kind > Cut {
-		return Entry{}, api.ErrForm
-	}
 	r := taker{Reader: pack.Open(p.Inside)}
 	e.N = r.Int()
 	e.Start, e.End = r.number(), r.number()
@@ -44,7 +41,7 @@ func TakeEntry(p frame.Piece) (Entry, api.Errno) {
 	e.Cells = taken(&r, roll.TakeCells)
 	e.Lasts = taken(&r, roll.TakeLasts)
 	e.Tail = r.Writes(math.MaxInt)
-	if !r.right() {
+	if !r.right() || !isEntry(e) {
 		return Entry{}, api.ErrForm
 	}
 	return e, api.OK

@@ -3,7 +3,6 @@ package pith_test
 import (
 	"math/rand"
 	"slices"
-	"strings"
 	"testing"
 
 	"spinney/api"
@@ -233,14 +232,11 @@ func TestP17_1_MovedAndCut(t *testing.T) {
 
 // Of another kind, or with what its kind doesn't use, each field by itself: ahead of all errors of the table.
 func TestP17_1_WhatIsNoEntry(t *testing.T) {
-	fields := map[string]func(e *pith.Entry){
-		"N": func(e *pith.Entry) { e.N = 1 }, "Start": func(e *pith.Entry) { e.Start = 1 }, "End": func(e *pith.Entry) { e.End = -1 }, "Write": func(e *pith.Entry) { e.Write.Id.Seq = 1 }, "Lines": func(e *pith.Entry) { e.Lines = lines(14, "1/6 put a 1") }, "Cells": func(e *pith.Entry) { e.Cells = cells("a", 1) }, "Lasts": func(e *pith.Entry) { e.Lasts[11] = 1 }, "Tail": func(e *pith.Entry) { e.Tail = writes("2/1 put a 1") },
-	}
-	uses := map[int]string{pith.Born: "N", pith.Took: "Write", pith.Grew: "Start End Lines Tail", pith.Leapt: "N Cells Lasts Tail", pith.Moved: "N", pith.Cut: "N"}
 	good := map[int]pith.Entry{pith.Born: {N: 6}, pith.Took: {Write: write("3/7 put a 1")}, pith.Grew: {Start: 14, End: 15}, pith.Leapt: {N: 20}, pith.Moved: {N: 2}, pith.Cut: {N: 12}}
-	for kind, words := range uses {
-		for name, set := range fields {
-			if slices.Contains(strings.Fields(words), name) {
+	more := append(fields(), field{"End", func(e *pith.Entry) { e.End = -1 }}, field{"Write", func(e *pith.Entry) { e.Write.Id.Seq = 1 }})
+	for kind := range good {
+		for _, f := range more {
+			if uses(kind, f.name) {
 				continue
 			}
 			e := good[kind]
@@ -248,12 +244,12 @@ func TestP17_1_WhatIsNoEntry(t *testing.T) {
 			if _, errno := pith.Do(some(), e); errno != api.OK {
 				t.Errorf("kind %d: %d", kind, errno)
 			}
-			set(&e)
-			does(t, name, some(), e, api.ErrForm, pith.State{})
+			f.set(&e)
+			does(t, f.name, some(), e, api.ErrForm, pith.State{})
 			bad := pith.Entry{Kind: kind}
-			set(&bad)
-			does(t, name+" alone", some(), bad, api.ErrForm, pith.State{})
-			does(t, name+" at the root", rootState(), bad, api.ErrForm, pith.State{})
+			f.set(&bad)
+			does(t, f.name+" alone", some(), bad, api.ErrForm, pith.State{})
+			does(t, f.name+" at the root", rootState(), bad, api.ErrForm, pith.State{})
 		}
 	}
 	for _, kind := range []int{0, 7, 8, 9, -1, 256 + 1, least, greatest} {
